@@ -1,0 +1,1 @@
+"""Nextcode: what code on the links of search trees does, for trees of every shape."""

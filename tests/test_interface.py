@@ -1,0 +1,67 @@
+"""Everything that the interface lists stands in its file, and the files keep the sizes that the language allows."""
+
+import ast
+import pathlib
+import unittest
+
+FOLDER = pathlib.Path(__file__).parent.parent / "nextcode"
+
+FUNCTIONS = {
+    "errors": {},
+    "trees": {"is_told": ["value"], "all_items": ["tree"], "height": ["tree"], "root_of": ["tree"], "links": ["tree"],
+              "of_items": ["items"]},
+    "codes": {},
+}
+CLASSES = {
+    "errors": {name: ["__init__"] for name in (
+        "BadKind", "BadUps", "BadLine", "Refused", "BadTree", "BadHanded", "BadPromise", "NoLine", "BadSize", "OtherUps",
+        "BadName", "NoDeed", "NoWalker", "NothingToUndo", "TooMany")},
+    "trees": {},
+    "codes": {"Code": ["__init__", "__len__", "__getitem__", "__eq__"]},
+}
+
+
+def parsed(path):
+    return ast.parse(path.read_text())
+
+
+class Interface(unittest.TestCase):
+    def test_functions_stand_in_their_files(self):
+        for name, functions in FUNCTIONS.items():
+            body = parsed(FOLDER / f"{name}.py").body
+            here = {node.name: [arg.arg for arg in node.args.args] for node in body if isinstance(node, ast.FunctionDef)}
+            for function, arguments in functions.items():
+                self.assertEqual(here.get(function), arguments)
+
+    def test_classes_stand_in_their_files_with_their_methods(self):
+        for name, classes in CLASSES.items():
+            body = parsed(FOLDER / f"{name}.py").body
+            here = {node.name: [part.name for part in node.body if isinstance(part, ast.FunctionDef)]
+                    for node in body if isinstance(node, ast.ClassDef)}
+            for one, methods in classes.items():
+                self.assertLessEqual(set(methods), set(here.get(one, [])), one)
+
+    def test_the_folder_holds_python_files_alone(self):
+        names = [path.name for path in FOLDER.iterdir() if path.name != "__pycache__"]
+        self.assertIn("__init__.py", names)
+        self.assertTrue(all(name.endswith(".py") for name in names), names)
+
+
+class Language(unittest.TestCase):
+    def test_sizes(self):
+        for path in FOLDER.glob("*.py"):
+            text = path.read_text()
+            self.assertTrue(text.isascii() and "\t" not in text and "\r" not in text, path)
+            lines = text.split("\n")
+            self.assertLess(len(lines), 400, path)
+            self.assertLessEqual(max(len(line) for line in lines), 120, path)
+            for node in ast.walk(ast.parse(text)):
+                if isinstance(node, ast.FunctionDef):
+                    self.assertLessEqual(node.end_lineno - node.lineno + 1, 40, (path, node.name))
+
+    def test_imports_are_from_the_package_alone(self):
+        for path in FOLDER.glob("*.py"):
+            for node in ast.walk(parsed(path)):
+                self.assertNotIsInstance(node, ast.Import, path)
+                if isinstance(node, ast.ImportFrom):
+                    self.assertTrue(node.level == 0 and node.module.startswith("nextcode."), path)

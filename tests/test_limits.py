@@ -395,6 +395,7 @@ class Goes(Limits):
         self.check_in("if at is none; stop; else; quit; end; go left; keep par", None)
         self.check_in("if at is none; go left; else; stop; end; keep par", 7)
         self.check_in("if at is none; stop; else; keep par; end; go left; keep par", 8)
+        self.check_in("if at is none; keep par; else; stop; end; go left; keep par", 8)
         self.check_in("if at is none; quit; end; go left", None)
 
     def test_many_ifs_in_a_loop(self):

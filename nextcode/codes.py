@@ -3,6 +3,7 @@
 from nextcode.blocks import count_ifs, read_blocks
 from nextcode.errors import BadKind, BadUps, Refused, TooMany
 from nextcode.limits import least_fault
+from nextcode.steps import steps_of
 
 KINDS = ("find", "after", "first", "next", "put", "take", "drop", "leave")
 KINDS_WITH_UPS = ("next", "take", "leave")
@@ -10,8 +11,16 @@ MOST_LINES = 60
 MOST_IFS = 7
 
 
+class Answers:
+    """What was found out about a code, kept beside it as it takes long; notes is None as long as nothing was asked."""
+
+    def __init__(self):
+        self.notes = None
+
+
 class Code:
-    """A code for one kind of deed; body holds the rows of its lines, as they stand in one another."""
+    """A code for one kind of deed; body holds the rows of its lines as they stand in one another, steps as they are
+    played."""
 
     def __init__(self, kind, text, ups=True):
         check_kind(kind, ups)
@@ -29,7 +38,9 @@ class Code:
         self.ups = ups
         self.text = text
         self._lines = lines
+        self.answers = Answers()
         self.body = body
+        self.steps = tuple(steps_of(body))
 
     def __len__(self):
         return len(self._lines)

@@ -23,6 +23,9 @@ COMPARED = ("at", "par", "top", "low", "out", "new", "key")
 LINKS = ("left", "right", "up")
 SIDES = ("left", "right")
 
+# Where a node keeps its links, if they stand in a row.
+PLACES = {"left": 0, "right": 1, "up": 2}
+
 OUTSIDE = "outside"
 DOWN = "down"
 UP = "up"

@@ -14,9 +14,22 @@
 >>> mover = Code("take", "top = at\\nif not at.right is none and not at.left is none\\nat = at.right\\ndown not at.left is none\\ngo left\\nend\\ntop gets at\\ntop = at\\nend\\nlow = top.left\\nif low is none\\nlow = top.right\\nend\\n" + hang)
 >>> [len(put), goer[3], len(taker), len(mover)]
 [19, 'if from left', 28, 26]
+
+>>> from nextcode.play import play
+>>> done = play(taker, t, 1)
+>>> [done.ended, done.told(), done.root, done.broken, done.links()[1], done.links()[2]]
+['done', ((None, (1, 11), None), (6, 13), (None, (9, 14), None)), 2, (), (None, None, None), (0, 3, None)]
+>>> [play(goer, t, 1).out, play(goer, t, 0).out, play(goer, t, 3).out, play(goer, t, 0).stations()]
+[2, 1, None, ((2, None, False, False, None), (2, 'left', True, True, None))]
+>>> [play(put, None, (5, 1)).told(), play(finder, t, 4).out, play(finder, t, 4).compares, play(mover, t, 1).broken]
+[(None, (5, 1), None), 2, 2, ('steady',)]
+
+>>> from nextcode.verdicts import keeps, kept, least_case
+>>> [kept(put) == kept(goer) == kept(taker) == ("inside", "ends", "tree", "items", "out", "steady"), kept(mover)]
+[True, ('inside', 'ends', 'tree', 'items', 'out')]
 >>> loose = Code("put", put.text.replace("new.up = par\\n", ""))
->>> len(loose)
-18
+>>> [keeps(loose, "tree"), len(all_items(least_case(loose, "tree")[0])), len(all_items(least_case(mover, "steady")[0]))]
+[False, 1, 3]
 """
 
 import doctest

@@ -11,6 +11,11 @@ FUNCTIONS = {
     "trees": {"is_told": ["value"], "all_items": ["tree"], "height": ["tree"], "root_of": ["tree"], "links": ["tree"],
               "of_items": ["items"]},
     "codes": {},
+    "play": {"play": ["code", "tree", "handed"]},
+    "verdicts": {"keeps": ["code", "promise"], "kept": ["code"], "least_case": ["code", "promise"]},
+    "uses": {"used_lines": ["code"], "used_sides": ["code"], "case_for_line": ["code", "line"],
+             "case_for_side": ["code", "line", "side"], "all_stations": ["code"],
+             "case_for_station": ["code", "station"]},
 }
 CLASSES = {
     "errors": {name: ["__init__"] for name in (
@@ -18,6 +23,7 @@ CLASSES = {
         "BadName", "NoDeed", "NoWalker", "NothingToUndo", "TooMany")},
     "trees": {},
     "codes": {"Code": ["__init__", "__len__", "__getitem__", "__eq__"]},
+    "play": {"Play": ["links", "held", "told", "lines", "sides", "stations"]},
 }
 
 

@@ -1,0 +1,129 @@
+"""Codes for the tests: right ones for each kind, and the same with slips."""
+
+from nextcode.codes import Code
+from tests.helper import text_of
+
+WALK = "at = root; down not at is none; keep par; if new < at; go left; else; go right; end; end; "
+HANG = ("if par is none; root = low; else; if par.left is top; par.left = low; else; par.right = low; end; end")
+HANG_UP = "par = top.up; if not low is none; low.up = par; end; " + HANG
+SEEK = ("at = root; down not at is none; if key is at; stop; end; keep par; if key < at; go left; else; go right; end; "
+        "end; ")
+# The node that is gone is replaced by the least one to its right, below which its left subtree is hung.
+LEAST_RIGHT = "at = at.right; down not at.left is none; go left; end; "
+TAKE = "top = at; if at.right is none; low = at.left; else; " + LEAST_RIGHT
+ONE_LESS = "top gets at; top = at; end; low = top.left; if low is none; low = top.right; end; "
+
+PUT = WALK + ("new.up = par; if par is none; root = new; else; if new < par; par.left = new; else; par.right = new; "
+              "end; end")
+PUT_DOWN = PUT.replace("new.up = par; ", "")
+PUT_SIDES = ("at = root; if at is none; root = new; quit; end; down not at is none; keep par; if at < new; keep low; "
+             "go right; else; keep top; go left; end; end; new.up = par; if par is low; low.right = new; else; "
+             "top.left = new; end")
+PUT_ABOVE = WALK + ("if par is none; root = new; quit; end; top = par.up; new.up = top; par.up = new; if new < par; "
+                    "new.right = par; else; new.left = par; end; if top is none; root = new; else; "
+                    "if top.left is par; top.left = new; else; top.right = new; end; end")
+FIND = ("at = root; down not at is none; if key is at; keep out; stop; end; if key < at; go left; else; go right; end; "
+        "end")
+FIND_LATE = ("at = root; down not at is none; if key < at; go left; else; keep out; go right; end; end; "
+             "if not out is none; if not key is out; out = none; end; end")
+AFTER = "at = root; down not at is none; if key < at; keep out; go left; else; go right; end; end"
+AFTER_TWICE = ("at = root; down not at is none; if key < at; keep out; go left; else; if key is at; stop; end; "
+               "go right; end; end; if at is none; quit; end; if at.right is none; quit; end; " + LEAST_RIGHT
+               + "out = at")
+FIRST = "at = root; down not at is none; keep out; go left; end"
+FIRST_LAST = "at = root; if at is none; quit; end; down not at.left is none; go left; end; out = at"
+NEXT = ("if at.right is none; up not at is none; if from left; stop; end; go up; end; else; " + LEAST_RIGHT
+        + "end; out = at")
+NEXT_LESS = ("top = at; if not at.right is none; at = at.right; down not at is none; keep out; go left; end; quit; "
+             "end; up not at is none; if top < at; keep out; quit; end; go up; end")
+TAKER = TAKE + "par = top.left; at.left = par; if not par is none; par.up = at; end; low = top.right; end; " + HANG_UP
+MOVER = "top = at; if not at.right is none and not at.left is none; " + LEAST_RIGHT + ONE_LESS + HANG_UP
+LEAVE = ("top = at; if at.right is none; up not at is none; if from left; stop; end; go up; end; out = at; "
+         "low = top.left; else; " + LEAST_RIGHT + "out = at; par = top.left; at.left = par; if not par is none; "
+         "par.up = at; end; low = top.right; end; " + HANG_UP)
+LEAVE_MOVED = ("top = at; if not at.right is none; " + LEAST_RIGHT + "out = at; if not top.left is none; top gets at; "
+               "out = top; top = at; end; else; up not at is none; if from left; stop; end; go up; end; out = at; end; "
+               "low = top.left; if low is none; low = top.right; end; " + HANG_UP)
+DROP_DOWN = (SEEK + "if at is none; quit; end; " + TAKE + "out = top.left; at.left = out; low = top.right; end; "
+             + HANG)
+DROP = (DROP_DOWN.replace("at.left = out; ", "at.left = out; if not out is none; out.up = at; end; ")
+        .replace(HANG, "if not low is none; low.up = par; end; " + HANG))
+DROP_MOVED_DOWN = (SEEK + "if at is none; quit; end; top = at; if not at.right is none and not at.left is none; "
+                   "par = at; " + LEAST_RIGHT.replace("go left", "keep par; go left") + ONE_LESS + HANG)
+DROP_MOVED = DROP_MOVED_DOWN.replace(HANG, "if not low is none; low.up = par; end; " + HANG)
+
+# The kind, whether with ups, and the rows.
+KEEPING_ALL = [
+    ("find", True, FIND), ("find", False, FIND), ("find", True, FIND_LATE), ("find", False, FIND_LATE),
+    ("after", True, AFTER), ("after", False, AFTER), ("after", True, AFTER_TWICE), ("after", False, AFTER_TWICE),
+    ("first", True, FIRST), ("first", False, FIRST), ("first", True, FIRST_LAST), ("first", False, FIRST_LAST),
+    ("next", True, NEXT), ("next", True, NEXT_LESS),
+    ("put", True, PUT), ("put", False, PUT_DOWN), ("put", True, PUT_SIDES), ("put", True, PUT_ABOVE),
+    ("take", True, TAKER), ("leave", True, LEAVE), ("drop", True, DROP), ("drop", False, DROP_DOWN),
+]
+MOVING = [("take", True, MOVER), ("leave", True, LEAVE_MOVED), ("drop", True, DROP_MOVED),
+          ("drop", False, DROP_MOVED_DOWN)]
+
+
+def code_of(kind, ups, rows):
+    return Code(kind, text_of(rows), ups)
+
+
+def changed(kind, ups, rows, old, new, promise, many):
+    """A slip: the rows with something put in place of something else, once; the promise that is broken by it, or None
+    for none, and the least number of nodes with which it is."""
+    assert old in rows, (rows, old)
+    return kind, ups, rows.replace(old, new, 1), promise, many
+
+
+SLIPS = [
+    changed("put", True, PUT, "new.up = par; ", "", "tree", 1),
+    changed("put", True, PUT, "root = new; ", "", "items", 0),
+    changed("put", True, PUT, "if new < par", "if par < new", "tree", 1),
+    changed("put", True, PUT, "new < at", "at < new", "tree", 2),
+    changed("put", True, PUT, "keep par; ", "", "items", 1),
+    changed("put", True, PUT, "down not at is none", "down not at.left is none", "inside", 0),
+    changed("put", True, PUT, "par.right = new; ", "", "items", 1),
+    changed("put", True, PUT, "go left", "stop", "items", 2),
+    changed("put", True, PUT, "new.up = par", "new.up = at", "tree", 1),
+    changed("put", False, PUT_DOWN, "if par is none; root = new; else; ", "if not par is none; ", "items", 0),
+    changed("put", False, PUT_DOWN, "go right; ", "", "ends", 1),
+    changed("put", True, PUT_ABOVE, "par.up = new; ", "", "tree", 1),
+    changed("put", True, PUT_ABOVE, "if top.left is par", "if par < top", None, 0),
+    changed("put", True, PUT_SIDES, "keep low; ", "keep low; keep top; ", None, 0),
+    changed("find", True, FIND, "keep out; ", "", "out", 1),
+    changed("find", True, FIND, "key < at", "at < key", "out", 2),
+    changed("find", False, FIND_LATE, "if not key is out; out = none; end; ", "", "out", 1),
+    changed("find", False, FIND, "go left", "quit", "out", 2),
+    changed("after", True, AFTER, "key < at", "not at < key", "out", 1),
+    changed("after", True, AFTER, "keep out; go left", "keep out; stop", "out", 2),
+    changed("after", False, AFTER_TWICE, "out = at", "at = out", "out", 2),
+    changed("after", True, AFTER_TWICE, "if at.right is none; quit; end; ", "", "inside", 1),
+    changed("first", True, FIRST, "go left", "go right", "out", 2),
+    changed("first", False, FIRST, "not at is none", "not at.left is none", "inside", 0),
+    changed("first", False, FIRST_LAST, "if at is none; quit; end; ", "", "inside", 0),
+    changed("first", False, FIRST_LAST, "go left; ", "", "ends", 2),
+    changed("first", True, FIRST, "go left; end", "go left; end; root = out", "tree", 2),
+    changed("first", False, FIRST, "go left; end", "go left; end; root = out", "items", 2),
+    changed("next", True, NEXT, "from left", "from right", "out", 2),
+    changed("next", True, NEXT, "if from left; stop; end; ", "", "out", 2),
+    changed("next", True, NEXT, "down not at.left is none; go left; end; ", "", "out", 3),
+    changed("next", True, NEXT, "out = at", "out = at; at.left = none", "inside", 1),
+    changed("next", True, NEXT_LESS, "top < at", "at < top", "out", 2),
+    changed("take", True, TAKER, "if not par is none; par.up = at; end; ", "", "tree", 3),
+    changed("take", True, TAKER, "at.left = par; ", "", "items", 3),
+    changed("take", True, TAKER, "root = low", "quit", "items", 1),
+    changed("take", True, TAKER, "if not low is none; low.up = par; end; ", "low.up = par; ", "inside", 1),
+    changed("take", True, TAKER, "low = top.right; end", "low = at; end", "items", 3),
+    changed("take", True, TAKER, "if par.left is top", "if not par.left is top", "items", 2),
+    changed("take", True, TAKER, "low = at.left", "low = none", "items", 2),
+    changed("take", True, MOVER, "top gets at; ", "", "items", 3),
+    changed("take", True, MOVER, "top gets at", "at gets top", "items", 3),
+    changed("leave", True, LEAVE, "out = at; low", "out = par; low", "out", 2),
+    changed("leave", True, LEAVE_MOVED, "out = top; ", "", "out", 3),
+    changed("drop", True, DROP, "if at is none; quit; end; ", "", "inside", 0),
+    changed("drop", True, DROP, "keep par; ", "", "items", 2),
+    changed("drop", False, DROP_DOWN, "if key is at; stop; end; ", "", "items", 1),
+    changed("drop", False, DROP_DOWN, "at.left = out; ", "", "items", 3),
+    changed("drop", False, DROP_MOVED_DOWN, "keep par; go left", "go left", "items", 4),
+]

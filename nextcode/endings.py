@@ -10,6 +10,7 @@ from nextcode.cases import ABOVE, FLANK, PART
 from nextcode.worlds import (
     ABSENT, AT, GAP, LEFT, MAYBE, NONE, OVER, RIGHT, SAME, THERE, placed_item, slot_of, stretch_of)
 
+# Beyond the ranks of all that is known.
 LOW = -1
 HIGH = 1000000
 
@@ -77,9 +78,7 @@ class Ending:
             self.meet_node(root, NONE, None)
 
     def meet_all_above(self):
-        """Meets the topmost node from the root, with what may be above it."""
-        if self.above:
-            self.row.append((LOW, 1, NONE, (ABOVE, None, RIGHT)))
+        """Meets the topmost node from the root, with a greater one above it if there may be nodes there."""
         self.meet_node(self.world.top, NONE, None)
         if self.above:
             self.row.append((HIGH, 1, NONE, (ABOVE, None, LEFT)))
@@ -138,13 +137,13 @@ class Ending:
             elif was == MAYBE and over == NONE and self.world.now[LEFT] == SAME:
                 self.bent[ABOVE] = True
         elif was == MAYBE:
-            self.is_wrong = self.is_wrong or over != NONE
+            self.is_wrong = over != NONE
             if self.world.now[LEFT] != SAME:
                 self.bent[ABOVE] = True
         elif was >= NONE:
-            self.is_wrong = self.is_wrong or was != over
+            self.is_wrong = was != over
         elif code is None:
-            self.is_wrong = self.is_wrong or stretch_of(self.world, was)[0] != over
+            self.is_wrong = stretch_of(self.world, was)[0] != over
             self.bent[was] = True
 
 

@@ -197,11 +197,5 @@ def is_bent(ending, want):
 
 
 def has_moved(ending):
-    """Whether an item that was there before is held by another node."""
-    world = ending.world
-    for _, _, node, _ in ending.row:
-        if node != NONE:
-            item = world.holds[node]
-            if item != node and not (world.kind == "put" and item == placed_item(world)):
-                return True
-    return False
+    """Whether an item that was there before is held by another node; the new one is not, where the owed ones are."""
+    return any([node != NONE and ending.world.holds[node] != node for _, _, node, _ in ending.row])

@@ -10,7 +10,7 @@ def live_bits(code):
     steps = code.steps
     at_end = bit_of("out") if code.kind in TELLING else 0
     # A step leads to later ones alone.
-    found = [at_end for step in steps]
+    found = [at_end] * len(steps)
     for at in range(len(steps) - 2, -1, -1):
         found[at] = bits_ahead(steps[at], found, at, at_end)
     return found

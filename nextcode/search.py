@@ -199,17 +199,14 @@ def step_to(world, slot):
 
 
 def sign_at(world, name, slot):
-    """How the nodes at a link stand to that of a register; None if it is none.
+    """How the nodes at a link stand to that of a register, which is a forebear; None if it is none.
 
     In a loop up this hangs on how each node is come to, and any sign will do.
     """
-    node, side = divmod(slot, 3)
     other = world.named[name]
     if other == NONE:
         return None
-    if other == node:
-        return -1 if side == LEFT else 1
-    return -1 if order_of(world, node, other) < 0 else 1
+    return -1 if order_of(world, slot // 3, other) < 0 else 1
 
 
 def region_at(world, slot):

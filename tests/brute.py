@@ -2,6 +2,7 @@
 
 from nextcode.play import play
 from nextcode.promises import PROMISES
+from nextcode.search import notes_of
 from nextcode.trees import all_items
 from nextcode.uses import (all_stations, case_for_line, case_for_side, case_for_station, used_lines, used_sides)
 from nextcode.verdicts import keeps, kept, least_case
@@ -58,6 +59,8 @@ def wrong_verdicts(code, most, fewest):
                 wrong.append((promise, "is broken, not kept", fewest[promise]))
             continue
         many = len(all_items(case[0]))
+        if notes_of(code).by_promise[promise][0] != many:
+            wrong.append((promise, "told with another number of nodes", case))
         if promise not in play(code, *case).broken:
             wrong.append((promise, "is not broken by", case))
         if fewest.get(promise, many) != many or (many <= most and promise not in fewest):

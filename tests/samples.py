@@ -127,3 +127,87 @@ SLIPS = [
     changed("drop", False, DROP_DOWN, "at.left = out; ", "", "items", 3),
     changed("drop", False, DROP_MOVED_DOWN, "keep par; go left", "go left", "items", 4),
 ]
+
+DOWN_LEFT = "at = root; top = at; down not at is none; keep out; go left; end; if out is none; quit; end; par = out.up; "
+UP_LOW = "low = at; up not at is none; keep par; go up; end; "
+# Codes in which something seldom matters: of a path of nodes that no register holds, of the nodes above, and so on.
+CORNERS = [
+    # A key that is left aside at a node which is neither the root nor the last one.
+    ("find", True, DOWN_LEFT + "if not par is none and not par is top and not key < par and key < top; out = none; end"),
+    ("find", False, "at = root; if at is none; quit; end; if key is at; out = at; quit; end; down not at is none; "
+                    "if key < at; go left; else; go right; end; end"),
+    ("drop", False, "at = root; if at is none; quit; end; if key is at; quit; end; down not at is none; keep par; "
+                    "if at < key; go right; else; go left; end; end; par = none"),
+    # What is known of the links beside a path.
+    ("first", True, DOWN_LEFT.replace("go left", "if at.right is none; go left; else; go left; end")
+     + "if not par is none and not par is top and par.right is none; out = none; end; if not par is none and "
+       "not par is top and not par.right is none; top = par; end"),
+    ("first", True, DOWN_LEFT.replace("go left", "if at.right is none; stop; end; go left")
+     + "if not par is none and par.right is none; out = none; end; if not par is none and not par is top; "
+       "par = par.right; par = par.left; end"),
+    ("first", True, DOWN_LEFT.replace("go left", "if not at.right is none; stop; end; go left")
+     + "if not par is none and not par is top and par.right is none; out = none; end"),
+    ("find", True, DOWN_LEFT.replace("go left", "if key < at; if at.right is none; stop; end; go left; else; go right; end")
+     + "if not par is none and not par is top and par.right is none; out = none; end; if not par is none and "
+       "not par is top and par.left is none; out = top; end"),
+    # A register that keeps none, and one that is asked at a second node that is known.
+    ("next", True, "up not from left; keep out; if at is none; stop; end; go up; end"),
+    ("next", True, "up not from right; keep out; if at is none; stop; end; go up; end; if out is none; quit; end"),
+    ("leave", True, "if root is at.up; quit; end; up not at is none; if from left and at.right is none; keep out; end; "
+                    "go up; end"),
+    ("leave", True, "if root is at.up; out = at; end; up not at is none and not at.right is none; keep out; go up; end"),
+    ("next", True, "at = at.up; if at is none; quit; end; if root is at.up and at.left is none; end; up not at is none; "
+                   "if from right; keep out; stop; end; go up; end"),
+    # Links of which it is known ahead of a loop that they lead to nodes.
+    ("next", True, "if not at.up is none; up not at is none; keep out; go up; end; end"),
+    ("first", True, "at = root; if at is none; quit; end; if at.left is none; quit; end; down not at is none; keep out; "
+                    "go left; end"),
+    # What a loop goes past.
+    ("next", True, "low = at; if not at.right is none; at = at.right; down not at.left is none; go left; end; out = at; "
+                   "quit; end; up not at is none; keep par; go up; end; if low < par; out = par; end"),
+    ("after", False, "at = root; if at is none; quit; end; down not at is none; if key < at; keep out; go left; else; "
+                     "go left; end; end; if not out is none; if key < out; quit; end; end; out = none"),
+    ("drop", False, DOWN_LEFT.replace("par = out.up; ", "if out is top; quit; end; low = out.right; if low is none; "
+                                                        "quit; end; top gets low; out.right = none")),
+    ("drop", False, "at = root; top = at; down not at is none; keep out; go right; end; if out is none; quit; end; "
+                    "if out is top; quit; end; low = out.left; if low is none; quit; end; top gets low; out.left = none"),
+    # A register that a loop compares.
+    ("first", True, "at = root; par = at; down at is none; go left; end; if at is none; quit; end; at = at.left; "
+                    "down not at is none; if at < par; keep out; go left; else; quit; end; end"),
+    ("find", False, "at = root; down not at is none; if key < at; stop; end; keep par; go right; end; if at is none; "
+                    "quit; end; at = at.left; down not at is none; if par < at; keep out; go left; else; go right; end; "
+                    "end"),
+    ("next", True, "par = at; at = at.right; down not at is none; if par < at; keep out; go left; else; quit; end; end"),
+    ("leave", True, "par = at; up not at is none; if par < at; keep out; stop; end; if at < par; keep low; end; go up; end"),
+    ("drop", False, "at = root; top = at; down not at is none; keep out; if at.right is none; stop; end; go left; end; "
+                    "if out is none; quit; end; if not out is top; top.left = out; end"),
+    # Whether nodes lie between two that are known.
+    ("next", True, UP_LOW + "if not low is par; low.up = par; end"),
+    ("next", True, UP_LOW + "if not low is par and root is low.up; out = low; end"),
+    ("next", True, UP_LOW + "if not low is par and low.up is par.left; out = low; end"),
+    ("next", True, UP_LOW + "if not low is par and low.up is par; out = low; end"),
+    ("next", True, UP_LOW + "if not low is par; par.left = low; end"),
+    ("take", True, UP_LOW + "if not low is par; low.up = par; par.left = low; end"),
+    ("take", True, UP_LOW + "if not low is par; low.up = par; end"),
+    ("put", False, WALK + "if not par is none; at = root; at.left = par; end"),
+    ("put", True, WALK + "if not par is none; at = root; at.left = par; par.up = at; end"),
+    ("put", False, "at = root; top = at; down not at is none; keep par; go right; end; if not par is none; "
+                   "if not par is top; top.right = par; end; par.right = new; else; root = new; end"),
+    # Items that move past subtrees which are not read.
+    ("take", True, "top = at; par = at.left; if par is none; quit; end; low = par.left; if low is none; quit; end; "
+                   "top gets par; par gets low; out = low.left; par.left = out; if not out is none; out.up = par; end"),
+    ("take", True, "top = at; par = at.right; if par is none; quit; end; low = par.right; if low is none; quit; end; "
+                   "top gets par; par gets low; out = low.right; par.right = out; if not out is none; out.up = par; end"),
+    ("drop", False, "at = root; if at is none; quit; end; par = at.left; low = at.right; at.left = low; at.right = par"),
+    ("drop", False, "at = root; if at is none; quit; end; down not at is none; keep par; go left; end; at = root; "
+                    "if not at is par; at gets par; end"),
+    ("first", True, "at = root; if at is none; quit; end; at.left = none; at.right = none; out = at"),
+    # What hangs above the handed node.
+    ("take", True, "root = at; at.up = none"), ("next", True, "root = at; at.up = none"), ("next", True, "root = at"),
+    ("next", True, "if not at.right is none; root = none; quit; end; at.up = none"),
+    ("take", True, "low = at.left; if low is none; quit; end; root = low; low.up = none; low.right = at; at.left = none"),
+    ("next", True, "at.up = none"), ("take", True, "low = at.left; root = low; low.up = none"),
+    ("leave", True, "low = at.right; if low is none; quit; end; root = low; low.up = none; out = low"),
+    ("leave", True, "if at is root; root = none; end"), ("take", True, "if not at.up is none; at = at.up; at.left = none; end"),
+    ("next", True, "if not at.right is none; quit; end; if at.up is none; quit; end; par = at.up; if at < par; out = par; end"),
+]

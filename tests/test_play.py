@@ -383,6 +383,11 @@ class Ends(unittest.TestCase):
         self.assertEqual((done.broken, done.told(), done.root), (("tree",), None, 1))
         self.assertEqual(done.links(), {0: (None,) * 3, 1: (1, None, None), 2: (None,) * 3, 3: (None,) * 3})
 
+    def test_what_is_met_by_up_links_alone_is_gone(self):
+        done = run("take", "low = at.left; root = low", FOUR, 1)
+        self.assertEqual((done.broken, done.links()[0], done.links()[1]), (("tree",), (None, None, 1), (None,) * 3))
+        self.assertEqual((done.links()[2], done.root), ((None,) * 3, 0))
+
     def test_without_ups(self):
         done = run("put", PUT_DOWN, FOUR, (5, 5), False)
         self.assertEqual((done.links()[4], done.links()[0], done.broken), ((None, None, None), (None, None, None), ()))

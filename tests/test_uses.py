@@ -8,7 +8,7 @@ from nextcode.trees import is_told
 from nextcode.uses import all_stations, case_for_line, case_for_side, case_for_station, used_lines, used_sides
 from tests.brute import disagreements
 from tests.helper import odd_values
-from tests.samples import AFTER, FIND, FIRST, KEEPING_ALL, MOVING, NEXT, PUT, SLIPS, TAKER, code_of
+from tests.samples import AFTER, CORNERS, FIND, FIRST, KEEPING_ALL, MOVING, NEXT, PUT, SLIPS, TAKER, code_of
 
 BOTH = (False, True)
 
@@ -22,6 +22,10 @@ class AgainstPlays(unittest.TestCase):
 
     def test_codes_with_slips(self):
         for kind, ups, rows, _, _ in SLIPS:
+            self.assertEqual(disagreements(code_of(kind, ups, rows), 4), [], (kind, ups, rows))
+
+    def test_corners(self):
+        for kind, ups, rows in CORNERS:
             self.assertEqual(disagreements(code_of(kind, ups, rows), 4), [], (kind, ups, rows))
 
     def test_right_codes_on_five_nodes(self):
@@ -173,7 +177,8 @@ class Stations(unittest.TestCase):
         self.assertIsNotNone(case_for_station(code, (2, "left", True, True, 1)))
         for station in ((2, "left", 1, True, 1), (2, "left", True, True, True), (2, "up", True, True, 1), (), (2,),
                         (3, "left", True, True, 1), (2, "left", True, True, None), (2, "left", None, True, 1),
-                        (2, "left", True, True, 1, None), (2, None, None, None, 0), (2, ["left"], True, True, 1)):
+                        (2, "left", True, True, 1, None), (2, None, None, None, 0), (2, ["left"], True, True, 1),
+                        [2, "left", True, True, 1], None, 2):
             self.assertIsNone(case_for_station(code, station), station)
 
     def test_new_lists(self):

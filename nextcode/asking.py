@@ -34,11 +34,12 @@ def ask(world, asked):
     """What a part of a test answers."""
     if asked[0] == "same":
         return are_same(world, asked[1], asked[2])
-    if asked[0] == "less":
-        return is_less(world, asked[1], asked[2])
-    if asked[0] == "equal":
-        return is_key_of(world, asked[1])
-    return world.came == asked[1]
+    if asked[0] == "from":
+        return world.came == asked[1]
+    answer = is_key_of(world, asked[1]) if asked[0] == "equal" else is_less(world, asked[1], asked[2])
+    if answer is True or answer is False:
+        world.compares += 1
+    return answer
 
 
 def item_of(world, name):

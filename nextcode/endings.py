@@ -154,7 +154,7 @@ def slot_key(slot):
 
 def flank_weight(world, code, step):
     """How many nodes a stretch needs for one at which its path goes by the step, or None if there is none."""
-    status = stretch_of(world, code)[3][step]
+    status = stretch_of(world, code)[3][step][0]
     if status == ABSENT:
         return None
     return 2 if status == THERE else 1

@@ -2,7 +2,7 @@
 
 from nextcode.cases import ABOVE, FLANK, PART
 from nextcode.endings import LOW, Ending, flank_weight, slot_key
-from nextcode.promises import CHANGING, TELLING
+from nextcode.promises import CHANGING, REFILLED, TELLING
 from nextcode.splits import grown, split_by_key, with_link
 from nextcode.worlds import (
     AT, FIRST_STRETCH, HANDED, LEFT, MAYBE, NONE, OVER, RIGHT, SAME, THERE, TOP, WITHIN, placed_item, slot_of,
@@ -109,6 +109,8 @@ def faults_of_items(ending):
         found.extend(faults_of_out(ending))
     if has_moved(ending):
         found.append(("steady", 0, ()))
+    if has_refilled(ending):
+        found.append((REFILLED, 0, ()))
     return found
 
 
@@ -140,12 +142,17 @@ def least_start(world, slot):
 
 def owed_items(world):
     """The items of known nodes that are owed by a code that changes the tree, by these nodes."""
-    gone = NONE
-    if world.kind in ("take", "leave"):
-        gone = HANDED
-    elif world.kind == "drop" and world.place[0] == AT:
-        gone = world.place[1]
+    gone = taken_node(world)
     return [node for node in range(1, len(world.holds)) if node != gone]
+
+
+def taken_node(world):
+    """The node whose item is to be taken out, or NONE."""
+    if world.kind in ("take", "leave"):
+        return HANDED
+    if world.kind == "drop" and world.place[0] == AT:
+        return world.place[1]
+    return NONE
 
 
 def faults_of_loss(ending):
@@ -199,3 +206,9 @@ def is_bent(ending, want):
 def has_moved(ending):
     """Whether an item that was there before is held by another node; the new one is not, where the owed ones are."""
     return any([node != NONE and ending.world.holds[node] != node for _, _, node, _ in ending.row])
+
+
+def has_refilled(ending):
+    """Whether a node whose item was not taken is in the tree with another one."""
+    free = (NONE, taken_node(ending.world))
+    return any([node not in free and ending.world.holds[node] != node for _, _, node, _ in ending.row])

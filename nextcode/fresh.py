@@ -7,7 +7,7 @@ the key stands to all of the subtree of the node: IN it, BELOW, ABOVE, or FREE w
 
 from nextcode.lines import KEPT, PLACES, SIDES, UP
 from nextcode.rounds import BEYOND, UNKNOWN, round_of
-from nextcode.worlds import ABSENT, LEFT, MAYBE, NONE, THERE
+from nextcode.worlds import ABSENT, LEFT, MAYBE, NONE, NO_PRICE, THERE
 
 FREE = "free"
 IN = "in"
@@ -23,6 +23,7 @@ class Fresh:
         self.facts = facts
         self.signs = signs
         self.doubt = None
+        self.compares = 0
 
     def ask(self, asked):
         """What a part of a test in a loop answers; the fact that has to be known for it is put in doubt."""
@@ -33,9 +34,10 @@ class Fresh:
             return self.is_none(asked[1][1])
         if self.facts is None:
             return BEYOND
-        if word == "equal":
-            return UNKNOWN if self.is_open("key") else self.facts["key"] == 0
-        return self.is_less(asked[1], asked[2])
+        answer = self.is_at_key() if word == "equal" else self.is_less(asked[1], asked[2])
+        if answer is True or answer is False:
+            self.compares += 1
+        return answer
 
     def is_open(self, fact):
         if fact in self.facts:
@@ -49,6 +51,9 @@ class Fresh:
         if self.facts is None:
             return BEYOND
         return UNKNOWN if self.is_open(link) else not self.facts[link]
+
+    def is_at_key(self):
+        return UNKNOWN if self.is_open("key") else self.facts["key"] == 0
 
     def is_less(self, first, second):
         other = second if first == "at" else first
@@ -144,6 +149,7 @@ def all_rounds(walk, known, signs):
             waiting.extend([{**facts, node.doubt: answer} for answer in answers])
         else:
             told.facts = facts
+            told.cost = node.compares
             found.append(told)
     return found
 
@@ -151,15 +157,16 @@ def all_rounds(walk, known, signs):
 class Go:
     """A round that goes on: the key's sign to its node, the side on which the path goes down from the node, what the
     node's other link leads to (True, False, None if not asked), what the link leads to by which the loop goes,
-    which registers keep the node, and the region behind it."""
+    which registers keep the node, the region behind it, and how many comparisons are made."""
 
-    def __init__(self, sign, side, beside, ahead, bits, region):
+    def __init__(self, sign, side, beside, ahead, bits, region, cost):
         self.sign = sign
         self.side = side
         self.beside = beside
         self.ahead = ahead
         self.bits = bits
         self.region = region
+        self.cost = cost
 
 
 def goes_of(walk, region, told):
@@ -169,12 +176,12 @@ def goes_of(walk, region, told):
     facts = told.facts
     if walk.is_up:
         side = PLACES[facts["from"]]
-        return [Go(None, side, facts.get(SIDES[1 - side]), facts.get("up"), told.bits, FREE)]
+        return [Go(None, side, facts.get(SIDES[1 - side]), facts.get("up"), told.bits, FREE, told.cost)]
     side = PLACES[told.action]
     beside = facts.get(SIDES[1 - side])
     ahead = facts.get(told.action)
     signs = [facts["key"]] if "key" in facts else signs_in(walk, region)
-    return [Go(sign, side, beside, ahead, told.bits, region_behind(region, sign, side)) for sign in signs]
+    return [Go(sign, side, beside, ahead, told.bits, region_behind(region, sign, side), told.cost) for sign in signs]
 
 
 def region_behind(region, sign, side):
@@ -193,10 +200,12 @@ def status_of(fact):
     return THERE if fact else NONE
 
 
-def status_of_all(facts):
-    """What a link can lead to if one of these is known of it, and it is open which one."""
-    if not facts:
-        return ABSENT
+def class_of(goes):
+    """The class of a node at which the loop goes on by one of these goes to the same side, it is open which one."""
+    if not goes:
+        return (ABSENT, NO_PRICE)
+    price = tuple([max([go.cost for go in goes if go.beside in (None, there)], default=-1) for there in (False, True)])
+    facts = [go.beside for go in goes]
     if None in facts or (True in facts and False in facts):
-        return MAYBE
-    return status_of(facts[0])
+        return (MAYBE, price)
+    return (status_of(facts[0]), price)

@@ -1,7 +1,7 @@
 """Laying plans: the worlds behind a loop that went on over nodes of which nothing was known."""
 
 from nextcode.lines import KEPT
-from nextcode.worlds import AT, GAP, LEFT, MAYBE, NONE, OVER, RIGHT, WITHIN, add_node, hang, slot_of
+from nextcode.worlds import AT, GAP, LEFT, MAYBE, NONE, OVER, RIGHT, WITHIN, add_node, hang, pay, slot_of
 
 
 def lay(world, plan, slot, is_up):
@@ -9,13 +9,14 @@ def lay(world, plan, slot, is_up):
     other = world.copy()
     nodes, end = plan
     node, side = divmod(slot, 3)
-    for classes, sign, turn, beside, bits in nodes:
+    for classes, sign, turn, kind, bits in nodes:
         if is_up:
-            node = lay_over(other, node, turn, classes, beside)
+            node = lay_over(other, node, turn, classes, kind[0])
         else:
             node = lay_under(other, node, side, classes, sign)
-            other.at_start[slot_of(node, 1 - turn)] = beside
+            other.at_start[slot_of(node, 1 - turn)] = kind[0]
             side = turn
+        pay(other, node, turn, kind)
         keep(other, bits, node)
     lay_end(other, end, node, side, is_up)
     return other
@@ -54,7 +55,8 @@ def lay_end(world, end, node, side, is_up):
         world.named["at"] = NONE
         keep(world, end[1], NONE)
         return
-    _, classes, left, right, up, sign, came, bits = end
+    _, classes, left, right, up, sign, came, bits, cost = end
+    world.compares += cost
     if is_up:
         last = lay_over(world, node, came, classes, right if came == LEFT else left)
         world.at_start[slot_of(last, OVER)] = up

@@ -4,6 +4,7 @@ A note is a tuple (world, plan, slot, is_up): what was met is met in a play on e
 the plan, if there is one; see the module laying.
 """
 
+from nextcode.bills import bills_of
 from nextcode.cases import case_of
 from nextcode.fresh import signs_in
 from nextcode.laying import lay
@@ -15,13 +16,14 @@ from nextcode.worlds import LEFT, MAYBE, NONE, RIGHT, THERE, sign_of_key, slot_o
 
 class Notes:
     """What was met, in dicts to the first note of it; and the lightest fault for each promise that is broken, a
-    tuple (number of nodes, world, wants)."""
+    tuple (number of nodes, world, wants); and the bills of all plays, as keys."""
 
     def __init__(self):
         self.by_line = {}
         self.by_side = {}
         self.by_station = {}
         self.by_promise = {}
+        self.bills = {}
         self.walked = {}
 
     def note_line(self, number, world):
@@ -35,6 +37,10 @@ class Notes:
     def note_fault(self, promise, many, world, wants):
         if promise not in self.by_promise or many < self.by_promise[promise][0]:
             self.by_promise[promise] = (many, world, wants)
+
+    def note_bills(self, world):
+        for bill in bills_of(world):
+            self.bills[bill] = True
 
 
 def case_of_note(note):

@@ -2,15 +2,16 @@
 
 A plan is a tuple (nodes, end). Only some nodes of the path are told by themselves, in the order in which the loop
 comes to them: those that a register holds behind the loop, the one at which the loop leaves the side where the key
-lies, and the last one. A node is a tuple (classes, sign, side, beside, bits): the classes of the stretch ahead of it,
-how the key stands to it, on which side of it the path goes down, what its other link leads to, and the registers that
-hold it. The end is one of
+lies, and the last one. A node is a tuple (classes, sign, side, class, bits): the classes of the stretch ahead of it,
+how the key stands to it, on which side of it the path goes down, its own class, which tells what its other link leads
+to, and the registers that hold it. The end is one of
 
-    ("node", classes, left, right, up, sign, side, bits)    a node, with its links as far as they were asked
-    ("none", bits)                                          behind the last node: `at` is none
+    ("node", classes, left, right, up, sign, side, bits, cost)    a node, with its links as far as they were asked, and
+                                                                  how many comparisons its round takes
+    ("none", bits)                                                behind the last node: `at` is none
 """
 
-from nextcode.fresh import status_of, status_of_all
+from nextcode.fresh import class_of, status_of
 from nextcode.lines import PLACES
 from nextcode.worlds import LEFT, NONE, NO_NODES, RIGHT, THERE
 
@@ -57,7 +58,7 @@ def classes_of(walk, region, settled):
     """The classes of the nodes of a stretch that stays in the region and is kept by none of those settled."""
     _, goes = walk.table(region)
     able = [go for go in goes if go.region == region and go.bits & settled == 0 and go.ahead is not False]
-    return tuple([status_of_all([go.beside for go in able if go.side == side]) for side in (LEFT, RIGHT)])
+    return tuple([class_of([go for go in able if go.side == side]) for side in (LEFT, RIGHT)])
 
 
 class Planner:
@@ -74,7 +75,7 @@ class Planner:
         told_rounds, goes = self.walk.table(region)
         for told in told_rounds:
             if told.action == self.action and told.bits & settled == 0 and rest & ~told.bits == 0:
-                self.found[(nodes, end_at(told.facts, classes, rest))] = True
+                self.found[(nodes, end_at(told.facts, classes, rest, told.cost))] = True
         able = [go for go in goes if go.bits & settled == 0]
         for sign, side in turns_of(able):
             same = [go for go in able if go.sign == sign and go.side == side]
@@ -86,13 +87,13 @@ class Planner:
     def go_by(self, chosen, classes, group, region, settled, rest, nodes):
         """Finds the plans that go on with a node, by one of the goes chosen, which the group keeps last."""
         sign, side, behind = chosen[0].sign, chosen[0].side, chosen[0].region
-        through = [go.beside for go in chosen if go.ahead is not False]
+        through = [go for go in chosen if go.ahead is not False]
         if through and (group or behind != region):
-            node = (classes, sign, side, status_of_all(through), group)
+            node = (classes, sign, side, class_of(through), group)
             self.go_on(behind, settled | group, rest & ~group, nodes + (node,))
-        last = [go.beside for go in chosen if go.ahead is not True]
+        last = [go for go in chosen if go.ahead is not True]
         if last and ends_nowhere(self.walk, self.action, settled | group, rest & ~group):
-            node = (classes, sign, side, status_of_all(last), group)
+            node = (classes, sign, side, class_of(last), group)
             self.found[(nodes + (node,), ("none", rest & ~group))] = True
 
 
@@ -104,16 +105,16 @@ def turns_of(goes):
     return list(found)
 
 
-def end_at(facts, classes, bits):
+def end_at(facts, classes, bits, cost):
     """The end of a plan at a node with these facts."""
     left, right, up = [status_of(facts.get(link)) for link in ("left", "right", "up")]
     side = None if facts["from"] is None else PLACES[facts["from"]]
-    return ("node", classes, left, right, up, facts.get("key"), side, bits)
+    return ("node", classes, left, right, up, facts.get("key"), side, bits, cost)
 
 
 def chain_of(goes):
     """The nodes of a plan with such goes and no other ones."""
-    return tuple([(NO_NODES, go.sign, go.side, status_of(go.beside), 0) for go in goes])
+    return tuple([(NO_NODES, go.sign, go.side, class_of([go]), 0) for go in goes])
 
 
 def chain_plan(goes):
@@ -123,4 +124,4 @@ def chain_plan(goes):
 
 def facts_plan(goes, facts):
     """The plan with such goes behind which a node with these facts comes."""
-    return (chain_of(goes), end_at(facts, NO_NODES, 0))
+    return (chain_of(goes), end_at(facts, NO_NODES, 0, 0))

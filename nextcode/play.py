@@ -3,31 +3,28 @@
 from nextcode.errors import BadHanded, BadTree
 from nextcode.machine import DONE, Machine
 from nextcode.promises import CHANGING, broken_by, right_row
-from nextcode.trees import all_items, is_integer, is_item, is_told, links, root_of
+from nextcode.shapes import nodes_down, told_tree, ways_in
+from nextcode.trees import all_items, is_integer, is_item, is_told, root_of
 
 
 def play(code, tree, handed=None):
     """Plays a code on a case."""
     if not is_told(tree):
         raise BadTree(tree)
-    items = all_items(tree)
-    if not can_be_handed(code.kind, items, handed):
+    holds = {number: item for number, item in enumerate(all_items(tree))}
+    if not can_be_handed(code.kind, holds, handed):
         raise BadHanded(handed)
-    holds = {number: item for number, item in enumerate(items)}
-    ways = links(tree)
-    if not code.ups:
-        ways = {number: (beside[0], beside[1], None) for number, beside in ways.items()}
-    return Play(Machine(code, ways, holds, root_of(tree), handed, len(items)))
+    return Play(Machine(code, ways_in(tree, code.ups), holds, root_of(tree), handed, len(holds)))
 
 
-def can_be_handed(kind, items, handed):
-    """Whether a value of any kind can be handed to a deed of this kind on a tree with these items."""
+def can_be_handed(kind, holds, handed):
+    """Whether a value of any kind can be handed to a deed of this kind on a tree with these nodes and items."""
     if kind == "first":
         return handed is None
     if kind == "put":
-        return is_item(handed) and all([handed[0] != key and handed[1] != mark for key, mark in items])
+        return is_item(handed) and all([handed[0] != key and handed[1] != mark for key, mark in holds.values()])
     if kind in ("next", "take", "leave"):
-        return is_integer(handed) and 0 <= handed < len(items)
+        return is_integer(handed) and handed in holds
     return is_integer(handed)
 
 
@@ -59,11 +56,7 @@ class Play:
         """The told tree that is left, or None if there is no right one, or one without nodes."""
         if not self._row:
             return None
-        made = {None: None}
-        for node in nodes_down(self._ways, self.root)[::-1]:
-            left, right, _ = self._ways[node]
-            made[node] = (made[left], self._items[node], made[right])
-        return made[self.root]
+        return told_tree(self._ways, self._items, self.root)
 
     def lines(self):
         """The numbers of the lines that were played, ascending."""
@@ -87,15 +80,3 @@ def cleared_ways(machine):
             if node not in met:
                 ways[node] = [None, None, None]
     return ways
-
-
-def nodes_down(ways, root):
-    """The nodes that are met from the root by left and right links, each once, none behind one below it in a tree."""
-    found = {}
-    waiting = [root]
-    while waiting:
-        node = waiting.pop()
-        if node is not None and node not in found:
-            found[node] = True
-            waiting.extend(ways[node][:2])
-    return list(found)

@@ -4,6 +4,10 @@ PROMISES = ("inside", "ends", "tree", "items", "out", "steady")
 CHANGING = ("put", "take", "drop", "leave")
 TELLING = ("find", "after", "first", "next", "leave")
 
+# No promise: broken by plays which keep the others up to items and leave a node in the tree with another item than its
+# own, which was not taken.
+REFILLED = "refilled"
+
 
 def broken_by(machine):
     """The promises that a play which is over breaks, in their order."""

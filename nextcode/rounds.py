@@ -18,7 +18,7 @@ NOTHING_THERE = ("same", ("at", None), ("none", None))
 class Round:
     """A round of a loop: the numbers of the lines that were played, the answers (line, side) of the tests, the
     registers that keep `at`, and the action at its end; and for a node of which nothing was known the facts that
-    were asked, and the registers as bits."""
+    were asked, the registers as bits, and how many comparisons were made."""
 
     def __init__(self):
         self.numbers = []
@@ -27,6 +27,7 @@ class Round:
         self.action = None
         self.facts = None
         self.bits = 0
+        self.cost = 0
 
 
 def answer_of(test, ask):

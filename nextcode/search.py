@@ -36,6 +36,7 @@ class Search:
         self.notes = Notes()
         self.waiting = [first_world(code.kind, code.ups)]
         self.walks = {}
+        self.compares = 0
 
     def run(self):
         while self.waiting:
@@ -45,6 +46,7 @@ class Search:
     def play_step(self, world):
         """Plays one step in a world."""
         word, row, where = self.code.steps[world.step]
+        self.compares = world.compares
         if word == "jump":
             self.go_on(world, where)
         elif word == "over":
@@ -65,6 +67,8 @@ class Search:
         self.waiting.append(world)
 
     def split_up(self, world):
+        # The step is played once more from its start, so that nothing in it was compared yet.
+        world.compares = self.compares
         self.waiting.extend(split_by_doubt(world))
 
     def play_if(self, world, row, where):
@@ -89,9 +93,11 @@ class Search:
 
     def fail(self, world, promise):
         self.notes.note_fault(promise, least_nodes(world), world, ())
+        self.notes.note_bills(world)
 
     def finish(self, world):
-        """Looks at what a play that is done leaves."""
+        """Looks at what a play that is done leaves, and what it cost."""
+        self.notes.note_bills(world)
         for one in settled_worlds(world):
             many = least_nodes(one)
             for promise, weight, wants in faults_of(one):

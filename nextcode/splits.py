@@ -1,7 +1,7 @@
 """Splits: the worlds in place of one in which something is open that has to be known."""
 
 from nextcode.worlds import (
-    ABSENT, AT, GAP, LEFT, MAYBE, NONE, NO_NODES, OVER, RIGHT, THERE, WITHIN, add_node, hang, set_stretch, slot_of,
+    ABSENT, AT, GAP, LEFT, MAYBE, NONE, NO_NODES, OVER, RIGHT, THERE, WITHIN, add_node, hang, pay, set_stretch, slot_of,
     stretch_of)
 
 # What can be in doubt: whether a link leads to none, what it leads to, or where the key lies.
@@ -69,7 +69,7 @@ def opened(world, slot, code):
     """The worlds in which the first node, or the last one, of a stretch is known, or the stretch has none."""
     found = [closed(world, code)]
     for step in (LEFT, RIGHT):
-        if stretch_of(world, code)[3][step] != ABSENT:
+        if stretch_of(world, code)[3][step][0] != ABSENT:
             found.append(opened_below(world, code, step) if slot % 3 == OVER else opened_above(world, code, step))
     return found
 
@@ -104,7 +104,9 @@ def opened_below(world, code, step):
 def stretch_node(world, code, step):
     """A node of the stretch, not yet linked to those beside it on the path."""
     node = add_node(world, MAYBE, MAYBE, NONE)
-    world.at_start[slot_of(node, 1 - step)] = stretch_of(world, code)[3][step]
+    kind = stretch_of(world, code)[3][step]
+    world.at_start[slot_of(node, 1 - step)] = kind[0]
+    pay(world, node, step, kind)
     return node
 
 

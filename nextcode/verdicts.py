@@ -20,6 +20,11 @@ def kept(code):
 def least_case(code, promise):
     """A case with the fewest nodes whose play breaks the promise, or None if the promise is kept."""
     check_promise(promise)
+    return case_against(code, promise)
+
+
+def case_against(code, promise):
+    """A case with the fewest nodes whose play breaks a promise, or is REFILLED, or None."""
     broken = notes_of(code).by_promise
     if promise not in broken:
         return None

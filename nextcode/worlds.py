@@ -12,9 +12,11 @@ the root, or TOP where a code begins at a node that it is handed and what lies a
 
 A stretch is a tuple (over, side, under, classes): from the link on this side of the node over, a path of any number
 of nodes, none included, leads down to the node under. Each of its nodes has the next one of the path to its left or
-to its right; classes tells for both what its other link leads to: NONE, MAYBE, THERE, or ABSENT where no round of
-the loop goes so. If a key is handed, it lies at the same side of all the nodes of a stretch, or the path goes to the
-side where it lies at each of them, so that no comparison of the key with the nodes of the stretch is open.
+to its right; classes tells for both a pair (status, price): the status what its other link leads to, NONE, MAYBE,
+THERE, or ABSENT where no round of the loop goes so, and the price how many comparisons its round takes at most, a pair
+for nothing at the other link and for something there, -1 where that can not be. If a key is handed, it lies at the
+same side of all the nodes of a stretch, or the path goes to the side where it lies at each of them, so that no
+comparison of the key with the nodes of the stretch is open.
 
 Each set of trees that fits a world is the set of all trees that fit what was asked on one way of a play, so
 everything that is open in a world can be chosen freely.
@@ -33,7 +35,8 @@ SAME = -4
 TOP = -5
 ABSENT = -6
 FIRST_STRETCH = -10
-NO_NODES = (-6, -6)
+NO_PRICE = (-1, -1)
+NO_NODES = ((-6, (-1, -1)), (-6, (-1, -1)))
 
 # The number of the node that is handed, that of the node of put, and what stands for a key that is in no node.
 HANDED = 1
@@ -54,7 +57,9 @@ class World:
     the topmost node if nodes above it may be there, place where the key lies: AT the node, in the GAP at a link
     (in it, if it leads to nodes that are not known), or anywhere WITHIN the subtree of the node. Registers are NONE
     or nodes. step is the next step of the code, came how the loop that is played came to `at`, "left", "right" or
-    None, and doubt what has to be known for the step.
+    None, and doubt what has to be known for the step. compares counts the comparisons that were made for certain.
+    prices holds nodes whose rounds hang on what is beside the path, if this is open: pairs (side, price) of the side
+    on which the path goes down and the price as in a class of a stretch.
     """
 
     def __init__(self, kind, ups):
@@ -71,6 +76,8 @@ class World:
         self.step = 0
         self.came = None
         self.doubt = None
+        self.compares = 0
+        self.prices = {}
 
     def copy(self):
         other = World(self.kind, self.ups)
@@ -84,6 +91,8 @@ class World:
         other.named = dict(self.named)
         other.step = self.step
         other.came = self.came
+        other.compares = self.compares
+        other.prices = dict(self.prices)
         return other
 
 
@@ -134,6 +143,15 @@ def hang(world, over, side, under, classes):
 
 def stretch_of(world, code):
     return world.stretches[FIRST_STRETCH - code]
+
+
+def pay(world, node, side, kind):
+    """Takes down what the round at a node of a class costs from which the path goes down on the side."""
+    status, price = kind
+    if status == MAYBE and price[0] != price[1]:
+        world.prices[node] = (side, price)
+    else:
+        world.compares += max(price)
 
 
 def set_stretch(world, code, over, side, under):

@@ -19,6 +19,27 @@ def trees_of(low, high):
 TREES = {many: trees_of(0, many) for many in range(6)}
 
 
+def shapes_of(most):
+    """All shapes (left, right) of trees whose height is at most so many."""
+    if most == 0:
+        return [None]
+    below = shapes_of(most - 1)
+    return [None] + [(left, right) for left in below for right in below]
+
+
+def filled(shape, many):
+    """The told tree of a shape with such items behind so many other ones, and how many there are then."""
+    if shape is None:
+        return None, many
+    left, many = filled(shape[0], many)
+    item = (2 * many + 2, 2 * many + 2)
+    right, many = filled(shape[1], many + 1)
+    return (left, item, right), many
+
+
+TREES_BY_HEIGHT = {most: [filled(shape, 0)[0] for shape in shapes_of(most)] for most in range(5)}
+
+
 def handed_for(kind, many):
     """What can be handed with such a tree of so many nodes."""
     if kind == "first":
@@ -33,6 +54,12 @@ def handed_for(kind, many):
 def cases_for(kind, most):
     """All cases of at most so many nodes, those with fewer nodes first."""
     return [(tree, handed) for many in range(most + 1) for tree in TREES[many] for handed in handed_for(kind, many)]
+
+
+def most_compares(code, n):
+    """The greatest number of comparisons in the plays on all trees whose height is at most n."""
+    return max(play(code, tree, handed).compares for tree in TREES_BY_HEIGHT[n]
+               for handed in handed_for(code.kind, len(all_items(tree))))
 
 
 def disagreements(code, most):

@@ -190,3 +190,58 @@ def make_block(make):
     if make.ifs < 4 and make.some(0.4):
         rows += make_block(make)
     return rows + ["end"]
+
+
+def comparing(number):
+    """A code whose rounds compare more or less by what they see, or None."""
+    chance = random.Random(number)
+    kind = chance.choice(ALL_KINDS)
+    make = Maker(number + 1, kind, kind in STANDING or chance.random() < 0.6)
+    name = make.kept()
+    rows = [f"{name} = at"] if make.some(0.7) else []
+    if kind in SEARCHES:
+        rows += ["at = root"] + comparing_loop(make, "down", None)
+        if make.some(0.5):
+            rows += ["if at is none", "quit", "end"] + [f"{name} = at"] * make.one(0, 1, 1)
+            rows += [f"at = at.{make.one('left', 'right')}"] + comparing_loop(make, "down", name)
+    elif make.some(0.5):
+        rows += ["at = at.up"] * make.one(0, 0, 1) + comparing_loop(make, "up", name)
+    else:
+        rows += [f"at = at.{make.one('left', 'right')}"] + comparing_loop(make, "down", name)
+    for _ in range(make.one(0, 1, 2, 3, 4)):
+        rows += comparing_behind(make)
+    return code_or_none(kind, make.ups, rows)
+
+
+def comparing_loop(make, word, name):
+    compared = name if make.some(0.7) else None
+    kept = [name for name in REGISTERS[1:] if name != compared]
+    head = make.one("", "", " and " + comparing_test(make, word, compared))
+    rows = [f"{word} not at is none{head}"]
+    for _ in range(make.one(0, 0, 1, 2)):
+        rows += [f"if {comparing_test(make, word, compared)}", "end"]
+    return rows + comparing_block(make, word, compared, kept, make.one(1, 2, 2, 3)) + ["end"]
+
+
+def comparing_block(make, word, compared, kept, depth):
+    rows = [f"keep {make.chance.choice(kept)}"] if make.some(0.15) else []
+    if depth == 0 or make.some(0.25):
+        return rows + make.one(*[go_on(make, word)] * 4, ["stop"], ["quit"])
+    rows += [f"if {comparing_test(make, word, compared)}"] + comparing_block(make, word, compared, kept, depth - 1)
+    return rows + ["else"] + comparing_block(make, word, compared, kept, depth - 1) + ["end"]
+
+
+def comparing_test(make, word, compared):
+    return " and ".join([ask_in(make, word, compared) for _ in range(make.one(1, 1, 2, 2, 3))])
+
+
+def comparing_behind(make):
+    """Lines behind the last loop that read on from a node, or compare it."""
+    name, other = make.chance.sample(REGISTERS, 2)
+    if make.some(0.5):
+        return [f"if not {name} is none", f"{make.register()} = {make.end_of(name)}", "end"]
+    if make.some(0.3):
+        return [f"if {make.part()}"] + make.one([], ["quit"]) + ["end"]
+    if make.kind in ("find", "after", "drop", "put") and make.some(0.5):
+        return [f"if not {name} is none and {name} < {'new' if make.kind == 'put' else 'key'}", "end"]
+    return [f"if not {name} is none and not {other} is none and {name} < {other}", "end"]

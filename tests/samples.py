@@ -51,6 +51,13 @@ DROP = (DROP_DOWN.replace("at.left = out; ", "at.left = out; if not out is none;
 DROP_MOVED_DOWN = (SEEK + "if at is none; quit; end; top = at; if not at.right is none and not at.left is none; "
                    "par = at; " + LEAST_RIGHT.replace("go left", "keep par; go left") + ONE_LESS + HANG)
 DROP_MOVED = DROP_MOVED_DOWN.replace(HANG, "if not low is none; low.up = par; end; " + HANG)
+# An item moves to the node of the one taken, and another one to its own node, which stays in the tree.
+REFILL_GREATER = ("top = at; if not at.right is none and not at.left is none; " + LEAST_RIGHT + "top gets at; top = at; "
+                  "par = top.right; if not par is none and par.left is none; top gets par; top = par; end; end; "
+                  "low = top.left; if low is none; low = top.right; end; " + HANG_UP)
+REFILL_LESS = REFILL_GREATER.replace("par = top.right", "par = top.left").replace("par.left is none", "par.right is none")
+REFILL_LESS = REFILL_LESS.replace(LEAST_RIGHT, "at = at.left; down not at.right is none; go right; end; ")
+SEEK_ONE = SEEK + "if at is none; quit; end; "
 
 # The kind, whether with ups, and the rows.
 KEEPING_ALL = [
@@ -63,6 +70,8 @@ KEEPING_ALL = [
 ]
 MOVING = [("take", True, MOVER), ("leave", True, LEAVE_MOVED), ("drop", True, DROP_MOVED),
           ("drop", False, DROP_MOVED_DOWN)]
+REFILLING = [("take", True, REFILL_GREATER), ("take", True, REFILL_LESS), ("drop", True, SEEK_ONE + REFILL_GREATER),
+             ("drop", True, SEEK_ONE + REFILL_LESS)]
 
 
 def code_of(kind, ups, rows):

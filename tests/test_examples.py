@@ -30,6 +30,14 @@
 >>> loose = Code("put", put.text.replace("new.up = par\\n", ""))
 >>> [keeps(loose, "tree"), len(all_items(least_case(loose, "tree")[0])), len(all_items(least_case(mover, "steady")[0]))]
 [False, 1, 3]
+
+>>> from nextcode.costs import most
+>>> [most(finder, 7), most(put, 10 ** 60), most(goer, 5), most(put, 0)]
+[7, 1000000000000000000000000000000000000000000000000000000000001, 0, 0]
+
+>>> from nextcode.walks import together
+>>> [together(taker, goer), together(mover, goer), together(mover, goer, finder)]
+[True, False, True]
 """
 
 import doctest

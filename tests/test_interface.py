@@ -16,6 +16,9 @@ FUNCTIONS = {
     "uses": {"used_lines": ["code"], "used_sides": ["code"], "case_for_line": ["code", "line"],
              "case_for_side": ["code", "line", "side"], "all_stations": ["code"],
              "case_for_station": ["code", "station"]},
+    "costs": {"most": ["code", "n"]},
+    "walks": {"together": ["taker", "goer", "finder"], "bad_walk": ["taker", "goer", "finder"]},
+    "stores": {},
 }
 CLASSES = {
     "errors": {name: ["__init__"] for name in (
@@ -24,7 +27,12 @@ CLASSES = {
     "trees": {},
     "codes": {"Code": ["__init__", "__len__", "__getitem__", "__eq__"]},
     "play": {"Play": ["links", "held", "told", "lines", "sides", "stations"]},
+    "stores": {"Store": ["__init__", "do", "present", "numbered", "__len__", "walk", "walker", "go_on", "undo",
+                         "undoable"]},
 }
+METHODS = {"do": ["self", "name", "handed"], "walk": ["self", "name", "node"], "walker": ["self", "name"],
+           "go_on": ["self", "name", "deed", "other"], "__init__": ["self", "ups", "codes", "tree"],
+           "present": ["self"], "numbered": ["self"], "undo": ["self"], "undoable": ["self"]}
 
 
 def parsed(path):
@@ -46,6 +54,11 @@ class Interface(unittest.TestCase):
                     for node in body if isinstance(node, ast.ClassDef)}
             for one, methods in classes.items():
                 self.assertLessEqual(set(methods), set(here.get(one, [])), one)
+
+    def test_the_methods_of_stores_take_what_is_listed(self):
+        for node in ast.walk(parsed(FOLDER / "stores.py")):
+            if isinstance(node, ast.FunctionDef) and node.name in METHODS:
+                self.assertEqual([arg.arg for arg in node.args.args], METHODS[node.name])
 
     def test_the_folder_holds_python_files_alone(self):
         names = [path.name for path in FOLDER.iterdir() if path.name != "__pycache__"]

@@ -1,12 +1,12 @@
 """Stores: a tree that is changed by deeds, which can be taken back, and walkers that stand in it."""
 
 from nextcode.codes import Code
-from nextcode.errors import BadHanded, BadName, BadTree, BadUps, NoDeed, NothingToUndo, NoWalker
+from nextcode.errors import BadHanded, BadName, BadUps, NoDeed, NothingToUndo, NoWalker
 from nextcode.machine import DONE, Machine
 from nextcode.play import Play, can_be_handed
 from nextcode.promises import right_row
 from nextcode.shapes import told_tree, ways_in
-from nextcode.trees import all_items, is_integer, is_told, root_of
+from nextcode.trees import all_items, is_integer, root_of
 
 
 class Store:
@@ -19,11 +19,11 @@ class Store:
 
     def __init__(self, ups, codes, tree=None):
         check_codes(ups, codes)
-        if not is_told(tree):
-            raise BadTree(tree)
+        # For what is no told tree the error is raised here.
+        items = all_items(tree)
         self.ups = ups
         self._codes = dict(codes)
-        self._holds = {number: item for number, item in enumerate(all_items(tree))}
+        self._holds = {number: item for number, item in enumerate(items)}
         self._ways = ways_in(tree, ups)
         self._root = root_of(tree)
         self._fresh = len(self._holds)

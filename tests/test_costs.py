@@ -144,6 +144,12 @@ class ByHand(unittest.TestCase):
                 "if par is none; quit; end; low = par.right; if low is none; quit; end; ")
         self.each("find", rows + "; ".join(["if key < low; end"] * 2), lambda n: 3 * n)
         self.each("find", rows + "; ".join(["if key < low; end"] * 4), lambda n: 3 * n + 1 if n > 1 else 3)
+        rows = rows.replace("if at.right is none; if key", "if not at.right is none; if key")
+        self.each("find", rows + "if key < low; end", lambda n: 3 * n - 2 if n > 1 else 0)
+        # The last node costs most with something beside it, for which there must be room.
+        rows = ("at = root; down not at is none; if at.left is none; if not at.right is none; if key < at; end; if key < at; "
+                "end; if key < at; end; end; else; if key < at; end; end; go left; end")
+        self.each("after", rows, lambda n: n + 1 if n > 1 else 0)
 
     def test_two_loops(self):
         seek = "at = root; down not at is none; if key is at; stop; end; if key < at; go left; else; go right; end; end; "
@@ -165,6 +171,18 @@ class ByHand(unittest.TestCase):
                 "quit; end; low = par.right; low = low.right; low = low.right; "
                 + "; ".join(["if key < low; end"] * 3))
         self.each("find", rows, lambda n: n if n < 4 else n + 3)
+
+    def test_two_stretches_that_cost_differently(self):
+        # Three comparisons at a node ahead of the one with the key, two at a node behind it, one at it; and six more if
+        # there are three nodes more to its right, so that no more than three are behind it.
+        rows = ("at = root; down not at is none; if key is at; keep par; go left; else; if key < at; if key < at; end; "
+                "go left; else; go left; end; end; end; low = par.right; low = low.right; low = low.right; "
+                + "; ".join(["if key < low; end"] * 6))
+        self.each("find", rows, lambda n: 3 * n + 1 if n > 3 else 3 * n)
+
+    def test_a_new_node_beside_the_empty_tree(self):
+        code = code_of("put", False, "par = new; if par < new; end; if new < at; end")
+        self.assertEqual([most(code, n) for n in range(3)], [1, 1, 1])
 
     def test_above_the_handed_node(self):
         rows = "low = at; up not at is none; if from left and low < at; if at < low; end; end; go up; end"
@@ -196,6 +214,24 @@ class ByHand(unittest.TestCase):
                 # Behind small heights each node more costs the same.
                 steps = [after - before for before, after in zip(told, told[1:])]
                 self.assertEqual(most(code, 10 ** 60), told[-1] + steps[-1] * (10 ** 60 - 11))
+
+
+class Large(unittest.TestCase):
+    """Codes of as many lines, and ifs outside loops, as there may be."""
+
+    def test_sixty_lines_and_seven_ifs(self):
+        loop = ("if at.left is none; keep top; end; if at.right is none; keep out; end; if key < at; keep par; else; "
+                "keep low; end; ")
+        rows = ("at = root; down not at is none; if key is at; stop; end; " + loop + "if key < at; go left; else; go right; "
+                "end; end; if at is none; quit; end; at = at.left; down not at is none; " + loop + "go right; end; "
+                + "if not par is none; par = par.up; end; if not top is none; top = top.up; end; " * 3
+                + "low = top; at = low")
+        code = code_of("find", True, rows)
+        self.assertEqual(len(code), 60)
+        # Three comparisons at each node, if the key is at none of them.
+        self.assertEqual(most(code, 10 ** 60), 3 * 10 ** 60)
+        for n in range(4):
+            self.assertEqual(most(code, n), most_compares(code, n))
 
 
 class Sizes(unittest.TestCase):

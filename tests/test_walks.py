@@ -231,6 +231,15 @@ class Errors(unittest.TestCase):
         self.assertIsNone(bad_walk(finder=finder, goer=goer, taker=mover))
         self.assertEqual(bad_walk(goer=goer, taker=mover), bad_walk(mover, goer))
 
+    def test_codes_of_sixty_lines(self):
+        for kind, ups, rows in REFILLING + MOVING:
+            if (kind, ups) in (("take", True), ("drop", True)):
+                taker = code_of(kind, ups, rows)
+                longer = code_of(kind, ups, rows + "; out = low" * (60 - len(taker)))
+                self.assertEqual(len(longer), 60)
+                for finder in (None, FINDERS[0]):
+                    self.assertEqual(together(longer, GOERS[0], finder), together(taker, GOERS[0], finder))
+
     def test_codes_without_lines(self):
         # A code that takes nothing out does not go together with any, however still a walker may stand.
         nothing = code_of("take", True, "")
